@@ -34,6 +34,13 @@ func stepPut(e api.Entry, who int) step {
 	}
 }
 
+// stepDirect: also what the store answers is told.
+func stepDirect(e api.Entry, who int) step {
+	return func(s *store.Store) (*store.Store, []api.Ack, api.Errno) {
+		return s, nil, s.Put(e, who)
+	}
+}
+
 func stepTick(s *store.Store) (*store.Store, []api.Ack, api.Errno) {
 	told, e := s.Tick()
 	return s, told, e
@@ -102,6 +109,40 @@ func putOf(from int, e api.Entry) act {
 	return handleOf("Flush of "+e.Key+strconv.Itoa(e.Tag.Seq)+" from "+strconv.Itoa(from), flushOf(from, e))
 }
 
+// promotedOf puts past Handle: Put of the store is a method of the server.
+func promotedOf(who int, e api.Entry) act {
+	return act{
+		"Put of " + e.Key + strconv.Itoa(e.Tag.Seq) + " for " + strconv.Itoa(who),
+		func(s *depot.Server) (*depot.Server, []api.Msg, api.Errno) { return s, nil, s.Put(e, who) },
+		stepDirect(e, who),
+	}
+}
+
+// embeddedOf puts past the server.
+func embeddedOf(who int, e api.Entry) act {
+	return act{
+		"Put to the store of " + e.Key + strconv.Itoa(e.Tag.Seq) + " for " + strconv.Itoa(who),
+		func(s *depot.Server) (*depot.Server, []api.Msg, api.Errno) { return s, nil, s.Store.Put(e, who) },
+		stepDirect(e, who),
+	}
+}
+
+// storeTickOf is a tick past the server, whose Acks become messages here.
+func storeTickOf() act {
+	return act{
+		"Tick of the store",
+		func(s *depot.Server) (*depot.Server, []api.Msg, api.Errno) {
+			acks, e := s.Store.Tick()
+			var out []api.Msg
+			for _, k := range acks {
+				out = append(out, flushedOf(k.Who, api.Entry{Key: k.Key, Tag: k.Tag}))
+			}
+			return s, out, e
+		},
+		stepTick,
+	}
+}
+
 func tickOf() act {
 	return act{
 		"Tick",
@@ -125,6 +166,7 @@ func spoilServer(s *depot.Server) {
 	}
 	s.Tick()
 	s.Handle(flushOf(78, gone("a", 78)))
+	s.Put(put("b", 78, "?"), 78)
 	s.Compact()
 	s.Handle(flushOf(79, put("c", 79, "?")))
 }
@@ -186,6 +228,7 @@ func acts() []act {
 		putOf(7, put("a", 1, "one")), putOf(8, put("a", 2, "two")), putOf(3, gone("a", 2)), putOf(7, gone("a", 3)), putOf(2, put("b", 1, "")),
 		putOf(7, unwritten("a")), handleOf("Look to another one", to(5, lookOf(7, "a"))), handleOf("Flush to another one", to(5, flushOf(7, put("a", 9, "nine")))),
 		crashOf(0), crashOf(30), crashOf(9999),
+		promotedOf(4, put("a", 2, "past")), promotedOf(-1, put("a", 5, "five")), embeddedOf(6, put("b", 2, "by")),
 	}
 }
 
@@ -284,9 +327,12 @@ func someAct(d *dice) act {
 		return copyOf(false)
 	case 8:
 		return missed()
+	case 9:
+		return storeTickOf()
 	}
 	e.Tag.Who, e.Tag.Op = d.below(2), d.below(3)
-	return putOf(d.below(9), e)
+	ways := []func(who int, e api.Entry) act{putOf, promotedOf, embeddedOf}
+	return ways[d.below(3)](d.below(9), e)
 }
 
 func TestLongRows(t *testing.T) {
